@@ -1,0 +1,1 @@
+"""Openroads: letters on roads that a stranger owns."""
