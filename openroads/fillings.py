@@ -3,6 +3,7 @@
 from openroads.atoms import ATOMS
 from openroads.letters import Letter
 from openroads.merging import Merger
+from openroads.tables import table
 
 
 def lettered(forms):
@@ -37,9 +38,10 @@ def match(pattern, letter):
 
 def narrowest(pairs):
     """The least filling with which both letters of every pair become equal, or None."""
-    merger = Merger()
-    for one, other in pairs:
-        if not merger.merge(merger.numbered(one.form()), merger.numbered(other.form())):
+    lines, numbers = table([letter.form() for pair in pairs for letter in pair])
+    merger = Merger(lines)
+    for at in range(0, len(numbers), 2):
+        if not merger.merge(numbers[at], numbers[at + 1]):
             return None
     forms = merger.changes()
     return None if forms is None else lettered(forms)

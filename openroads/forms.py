@@ -6,6 +6,7 @@ Nothing here calls itself, so that forms may be nested deeper than calls.
 from openroads.atoms import ATOMS, is_atom
 
 KEYS = ("open", "own")
+PARTNERS = {"open": "own", "own": "open"}
 
 # How many items the form of each kind has, its kind among them.
 SIZES = {
@@ -65,22 +66,25 @@ def forms_in(form):
     return found
 
 
+def partner(key):
+    """The partner of a key, both told in the same way."""
+    return (PARTNERS[key[0]], key[1])
+
+
 def rebuilt(part, made):
-    """A part with things off the end of a list in the places of its inner forms, the last thing in the first place.
+    """A part that is no atom, with things off the end of a list in the places of its inner forms, the last one first.
 
     If the forms in a form are gone through from behind, what was made last is just what was made of these inner forms.
     """
-    if part[0] in ATOMS:
-        return part
     return (part[0], *[made.pop() for place in part[1:]])
 
 
-def filled_form(form, forms):
-    """A form in which the unknowns that a dict has are replaced by its forms, all at once."""
+def exchanged(form, forms):
+    """A form in which the atoms that a dict has are replaced by its forms, all at once."""
     made = []
     for part in forms_in(form)[::-1]:
-        if part[0] == "unknown":
-            made.append(forms.get(part[1], part))
+        if part[0] in ATOMS:
+            made.append(forms.get(part, part))
         else:
             made.append(rebuilt(part, made))
     return made.pop()

@@ -2,7 +2,7 @@
 
 from openroads.atoms import atom_form
 from openroads.errors import BadAtom, BadForm, BadKey, BadText
-from openroads.forms import KEYS, filled_form, first_fault, forms_in
+from openroads.forms import KEYS, exchanged, first_fault, forms_in
 from openroads.formtexts import form_text, text_form
 
 
@@ -42,15 +42,15 @@ class Letter:
 
     def unknowns(self):
         """The ascending list of the unknowns in the letter, each once."""
-        return sorted({part[1] for part in forms_in(self.shape) if part[0] == "unknown"})
+        return sorted(set([part[1] for part in forms_in(self.shape) if part[0] == "unknown"]))
 
     def names(self):
         """The ascending list of the names in the letter, each once."""
-        return sorted({part[1] for part in forms_in(self.shape) if part[0] == "name"})
+        return sorted(set([part[1] for part in forms_in(self.shape) if part[0] == "name"]))
 
     def filled(self, filling):
         """The letter in which the unknowns that the filling has are replaced by its letters, all at once."""
-        return Letter(filled_form(self.shape, {unknown: filling[unknown].form() for unknown in filling}))
+        return Letter(exchanged(self.shape, {("unknown", unknown): filling[unknown].form() for unknown in filling}))
 
     def __add__(self, other):
         """The pair."""

@@ -1,40 +1,22 @@
 """Forms that must become equal, told by numbers.
 
-Equal forms have one number, and what is merged is merged once. So the time does not grow with the forms that
-come out, which can be far larger than those that went in.
+What is merged is merged once. So the time does not grow with the forms that come out, which can be far larger than
+those that went in.
 """
 
 from openroads.atoms import ATOMS
-from openroads.forms import forms_in, rebuilt
 
 
 class Merger:
-    """Numbered forms in classes, each class of those that must become equal.
+    """The forms of a table in classes, each class of those that must become equal.
 
     One member is the root of its class: one that is no unknown if there is one, else the first unknown.
     """
 
-    def __init__(self):
-        self.numbers = {}
-        # An atom's row is its form; another row has the numbers of the inner forms behind the kind.
-        self.rows = []
+    def __init__(self, lines):
+        self.lines = lines
         # The way from each number to the root of its class, which is above itself.
-        self.above = []
-
-    def numbered(self, form):
-        """The number of a form."""
-        made = []
-        for part in forms_in(form)[::-1]:
-            made.append(self.noted(rebuilt(part, made)))
-        return made.pop()
-
-    def noted(self, row):
-        """The number of the form with this row."""
-        if row not in self.numbers:
-            self.numbers[row] = len(self.rows)
-            self.above.append(len(self.rows))
-            self.rows.append(row)
-        return self.numbers[row]
+        self.above = [number for number in range(len(lines))]
 
     def root(self, number):
         """The root of a number's class."""
@@ -61,30 +43,30 @@ class Merger:
 
     def joined(self, one, other):
         """Joins the classes of two roots; returns the pairs that must be equal then, or None if they cannot be."""
-        row, against = self.rows[one], self.rows[other]
-        if row[0] == "unknown" and (against[0] != "unknown" or against < row):
+        line, against = self.lines[one], self.lines[other]
+        if line[0] == "unknown" and (against[0] != "unknown" or against < line):
             self.above[one] = other
             return []
         if against[0] == "unknown":
             self.above[other] = one
             return []
-        if row[0] != against[0] or row[0] in ATOMS:
+        if line[0] != against[0] or line[0] in ATOMS:
             return None
         self.above[other] = one
-        return list(zip(row[1:], against[1:]))
+        return list(zip(line[1:], against[1:]))
 
     def inner(self, number):
         """The roots of the inner forms of a number."""
-        row = self.rows[number]
-        if row[0] in ATOMS:
+        line = self.lines[number]
+        if line[0] in ATOMS:
             return []
-        return [self.root(place) for place in row[1:]]
+        return [self.root(place) for place in line[1:]]
 
     def forms(self):
         """The forms that the classes become, by their roots; None if one would be a part of itself."""
         forms = {}
         begun = {}
-        left = [self.root(number) for number in range(len(self.rows))]
+        left = [self.root(number) for number in range(len(self.lines))]
         while left:
             number = left[-1]
             waiting = [root for root in self.inner(number) if root not in forms]
@@ -102,10 +84,10 @@ class Merger:
 
     def formed(self, number, forms):
         """The form of a number, made of those of the roots in it."""
-        row = self.rows[number]
-        if row[0] in ATOMS:
-            return row
-        return (row[0], *[forms[root] for root in self.inner(number)])
+        line = self.lines[number]
+        if line[0] in ATOMS:
+            return line
+        return (line[0], *[forms[root] for root in self.inner(number)])
 
     def changes(self):
         """The forms of the unknowns that must change, by the unknowns; None if nothing makes all equal."""
@@ -113,8 +95,8 @@ class Merger:
         if forms is None:
             return None
         changed = {}
-        for number, row in enumerate(self.rows):
+        for number, line in enumerate(self.lines):
             root = self.root(number)
-            if row[0] == "unknown" and root != number:
-                changed[row[1]] = forms[root]
+            if line[0] == "unknown" and root != number:
+                changed[line[1]] = forms[root]
         return changed

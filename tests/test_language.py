@@ -26,9 +26,12 @@ METHODS = set(
     " split splitlines startswith strip update upper values zfill bit_length".split())
 BARRED = (
     ast.Global, ast.AsyncFunctionDef, ast.AsyncFor, ast.AsyncWith, ast.Import, ast.Div, ast.Set, ast.GeneratorExp,
-    ast.Yield, ast.YieldFrom, ast.Try, ast.With, ast.Match, ast.AnnAssign, ast.Delete, ast.Nonlocal, ast.NamedExpr)
+    ast.Yield, ast.YieldFrom, ast.With, ast.Match, ast.AnnAssign, ast.Nonlocal, ast.NamedExpr)
 DUNDERS = {"__init__", "__eq__", "__len__", "__lt__", "__le__", "__gt__", "__ge__", "__contains__", "__add__",
-           "__mul__", "__xor__", "__invert__", "__pos__", "__neg__"}
+           "__mul__", "__xor__", "__invert__", "__pos__", "__neg__", "__iadd__", "__getitem__", "__iter__"}
+# What the operators call changes nothing but what it has made itself.
+MODIFYING = {"append", "clear", "extend", "insert", "pop", "remove", "reverse", "setdefault", "update"}
+IN_PLACE = {"__init__", "__iadd__"}
 
 
 def names_bound(node):
@@ -42,6 +45,13 @@ def names_bound(node):
     if isinstance(node, ast.alias):
         return [node.asname or node.name]
     return []
+
+
+def makes_new(value):
+    """Whether a value is one that is new in its function, and may be changed there."""
+    if isinstance(value, ast.Call):
+        return getattr(value.func, "id", "") in ("list", "dict", "sorted")
+    return isinstance(value, (ast.List, ast.Dict, ast.ListComp))
 
 
 class Language(unittest.TestCase):
@@ -71,7 +81,7 @@ class Language(unittest.TestCase):
         for place, node in self.nodes():
             if isinstance(node, ast.FunctionDef):
                 self.assertLessEqual(node.end_lineno - node.lineno + 1, 40, place)
-                self.assertLessEqual({item.id for item in node.decorator_list}, {"staticmethod"}, place)
+                self.assertLessEqual({item.id for item in node.decorator_list}, {"staticmethod", "property"}, place)
 
     def test_barred_nodes(self):
         for place, node in self.nodes():
@@ -102,7 +112,7 @@ class Language(unittest.TestCase):
                 self.assertRegex(name, r"^[A-Za-z][A-Za-z0-9_]*$", place)
                 self.assertFalse(hasattr(builtins, name), (place, name))
             if isinstance(node, ast.Name) and hasattr(builtins, node.id):
-                self.assertIn(node.id, BUILTINS | {"staticmethod"}, place)
+                self.assertIn(node.id, BUILTINS | {"staticmethod", "property"}, place)
             if isinstance(node, ast.Attribute):
                 self.assertNotIn(node.attr, NAMES, place)
                 self.assertFalse(node.attr.startswith("_"), place)
@@ -118,18 +128,81 @@ class Language(unittest.TestCase):
                 if isinstance(node, ast.arg) or isinstance(node, ast.Name) and isinstance(node.ctx, ast.Store):
                     self.assertEqual(set(names_bound(node)) & held, set(), path.name)
 
+    def test_tries(self):
+        own = {node.name for node in self.trees[PACKAGE / "errors.py"].body if isinstance(node, ast.ClassDef)}
+        for place, node in self.nodes():
+            if isinstance(node, ast.ExceptHandler):
+                self.assertIn(node.type.id, own, place)
+            for item in getattr(node, "finalbody", []):
+                self.assertIsInstance(item, ast.Assign, place)
+                self.assertIsInstance(item.value, ast.Name, place)
+            if isinstance(node, ast.Delete):
+                for target in node.targets:
+                    self.assertIsInstance(target, ast.Subscript, place)
+
+    def test_what_is_sorted(self):
+        # Heaps are compared and have no order, so only what cannot be an object of a class is sorted.
+        for place, node in self.nodes():
+            if isinstance(node, ast.Call) and isinstance(node.func, ast.Name) and node.func.id == "sorted":
+                self.assertEqual(node.args[0].func.id, "set", place)
+            if isinstance(node, ast.Name):
+                self.assertNotIn(node.id, ("min", "max", "reversed"), place)
+
+    def called_by_operators(self):
+        """The functions that stand behind operators and properties, found by their names."""
+        bodies, left = {}, []
+        for place, node in self.nodes():
+            if isinstance(node, ast.ClassDef):
+                bodies.setdefault(node.name, []).extend(
+                    [item for item in node.body if getattr(item, "name", "") == "__init__"])
+            if isinstance(node, ast.FunctionDef):
+                bodies.setdefault(node.name, []).append(node)
+                held = {item.id for item in node.decorator_list}
+                if node.name in DUNDERS - IN_PLACE or "property" in held:
+                    left.append(node)
+        found = []
+        while left:
+            body = left.pop()
+            if body not in found:
+                found.append(body)
+                for node in ast.walk(body):
+                    if isinstance(node, ast.Call):
+                        name = getattr(node.func, "id", getattr(node.func, "attr", ""))
+                        left.extend(bodies.get(name, []))
+        return found
+
+    def test_operators_change_nothing(self):
+        names = [body.name for body in self.called_by_operators()]
+        for name in ("__contains__", "rows", "forms_in", "table", "derivations", "can_make", "form"):
+            self.assertIn(name, names)
+        for body in self.called_by_operators():
+            made = {target.id for node in ast.walk(body) if isinstance(node, ast.Assign) and makes_new(node.value)
+                    for target in node.targets if isinstance(target, ast.Name)}
+            for node in ast.walk(body):
+                place = (body.name, getattr(node, "lineno", 0))
+                self.assertNotIsInstance(node, (ast.AugAssign, ast.Delete), place)
+                if isinstance(node, ast.Call) and getattr(node.func, "attr", "") in MODIFYING:
+                    self.assertIn(getattr(node.func.value, "id", ""), made, place)
+                if isinstance(node, ast.Subscript) and isinstance(node.ctx, ast.Store):
+                    self.assertIn(getattr(node.value, "id", ""), made, place)
+                if isinstance(node, ast.Attribute) and isinstance(node.ctx, ast.Store):
+                    self.assertEqual(body.name, "__init__", place)
+
     def test_methods_and_attributes(self):
-        methods, stored, read, called = set(), set(), set(), set()
+        methods, stored, read, called, properties = set(), set(), set(), set(), set()
         for place, node in self.nodes():
             if isinstance(node, ast.ClassDef):
                 methods |= {item.name for item in node.body if isinstance(item, ast.FunctionDef)}
+                properties |= {item.name for item in node.body if isinstance(item, ast.FunctionDef)
+                               and "property" in {held.id for held in item.decorator_list}}
             if isinstance(node, ast.Attribute):
                 (stored if isinstance(node.ctx, ast.Store) else read).add(node.attr)
             if isinstance(node, ast.Call) and isinstance(node.func, ast.Attribute):
                 called.add(node.func.attr)
         self.assertEqual(methods & stored, set())
-        self.assertLessEqual(called, methods | METHODS)
-        self.assertLessEqual(read, stored | called)
+        self.assertLessEqual(called, methods - properties | METHODS)
+        self.assertLessEqual(read, stored | called | properties)
+        self.assertEqual(properties & METHODS, set())
 
 
 if __name__ == "__main__":
