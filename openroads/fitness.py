@@ -14,16 +14,14 @@ def first_not_fit(params, knows, fresh, rows):
     held = [("unknown", param) for param in params]
     held.extend([letter.form() for letter in knows])
     held.extend([("name", name) for name in fresh])
-    known = {param: True for param in params}
     for index, row in enumerate(rows):
         form = row[-1].form()
-        new = [unknown for unknown in row[-1].unknowns() if unknown not in known]
         if row[0] == "await":
-            arrived = [("unknown", unknown) for unknown in new]
-            if not is_fit_await(held, form, arrived):
+            new = [("unknown", unknown) for unknown in row[-1].unknowns() if ("unknown", unknown) not in held]
+            if not is_fit_await(held, form, new):
                 return index
-            held.extend(arrived)
-            known.update({unknown: True for unknown in new})
-        elif len(new) > 0 or not can_make(held, form):
+            held.extend(new)
+        # A new unknown is not held, so nothing with it can be made.
+        elif not can_make(held, form):
             return index
     return None

@@ -22,8 +22,7 @@ def is_taken(role, filling):
     return all([is_settled(filling[param]) for param in params])
 
 
-def rows_of(role, number, filling):
-    """The rows of a role in the sitting with a number."""
-    forms = {("unknown", param): filling[param].form() for param in filling}
-    forms.update({("name", name): ("name", f"{name}{number}") for name in role.fresh})
+def rows_of(role, number):
+    """The rows of a role in the sitting with a number, but for the params, which are filled like other unknowns."""
+    forms = {("name", name): ("name", f"{name}{number}") for name in role.fresh}
     return [(*row[:-1], Letter(exchanged(row[-1].form(), forms))) for row in role.rows]

@@ -48,7 +48,7 @@ class World:
         check(book, sittings)
         roles = {role.title: role for role in book.roles}
         # The rows of each sitting; they never change, so that twins may share them.
-        self.scripts = [rows_of(roles[title], k, filling) for k, (title, filling) in enumerate(sittings)]
+        self.scripts = [rows_of(roles[title], number) for number, (title, filling) in enumerate(sittings)]
         fillings = [dict(filling) for title, filling in sittings]
         moment = Moment(book.known, [], [], [0 for filling in fillings], fillings)
         for sitting, rows in enumerate(self.scripts):

@@ -138,7 +138,8 @@ class Refused(unittest.TestCase):
 
 BAD = [
     None, 0, "", "at", "word", [], ["at", 0], ["word", "a"], (), ("at",), ("word",), ("at", 0, 0), ("word", "a", "b"),
-    ("at", "0"), ("at", None), ("at", ()), ("at", [0]), ("at", WORD), ("word", ""), ("word", "A"), ("word", "abcdefghi"),
+    ("at", "0"), ("at", None), ("at", ()), ("at", [0]), ("at", WORD), ("at", True), ("at", False),
+    ("word", ""), ("word", "A"), ("word", "abcdefghi"),
     ("word", "a1"), ("word", "?x"), ("word", 1), ("word", None), ("word", ["a"]), ("word", ("word", "a")),
     ("name", "K"), ("unknown", "x"), ("own", NAME), ("works", NAME), ("same", NAME, NAME), ("third", PAIR), ("", NAME),
     ("At", 0), ("at ", 0), (None, 0), (0, 0), (("at", 0),), (["at"], 0), ([], 0), ((), 0), (("at", 0), ("at", 0)),

@@ -1,7 +1,9 @@
 """Roles: what is wrong with their fields, and which rows are fit (points 16, 17)."""
 
+import random
 import unittest
 
+import oracle
 from openroads.errors import BadRole, NotFit
 from openroads.letters import Letter
 from openroads.roles import Role
@@ -228,6 +230,63 @@ class Fit(unittest.TestCase):
         self.check(0, rows, knows=["mark(K)"])
         self.check(1, rows[:1] + rows[2:], knows=["K"])
         self.check(11, rows[:11] + ["send ?l"], knows=["K"])
+
+    def test_against_the_oracle(self):
+        chance = random.Random(11)
+        atoms = [("unknown", "x"), ("unknown", "y"), ("unknown", "me"), ("name", "K"), ("name", "N"), ("word", "a")]
+
+        def letter(depth):
+            kind = chance.choice(["atom"] if depth == 0 else ["atom", "pair", "pair", "seal", "seal", "lock", "mark", "open"])
+            if kind == "atom":
+                return chance.choice(atoms)
+            if kind == "lock":
+                return (kind, letter(depth - 1), (chance.choice(["open", "own"]), chance.choice(atoms)))
+            return (kind, *[letter(depth - 1) for turn in range(1 if kind in ("mark", "open") else 2)])
+
+        indexes = []
+        for turn in range(1500):
+            knows = chance.sample([("own", ("unknown", "me")), ("name", "K"), ("open", ("name", "M")),
+                                   ("seal", ("name", "M"), ("name", "K"))], 2)
+            rows = [(chance.choice(["await", "await", "send"]), letter(2)) for at in range(3)]
+            expected = unfit([("unknown", "me"), ("name", "N")] + knows, rows)
+            made = (["me"], [Letter.of(form) for form in knows], ["N"], [(kind, Letter.of(form)) for kind, form in rows])
+            try:
+                Role("ann", *made)
+                found = None
+            except NotFit as error:
+                found = error.index
+            self.assertEqual(found, expected, (knows, rows))
+            indexes.append(found)
+        for index in (0, 1, 2, None):
+            self.assertGreater(indexes.count(index), 50)
+
+
+def unfit(held, rows):
+    """The index of the first row that is not fit, by the words of point 17."""
+    for index, (kind, form) in enumerate(rows):
+        unknowns = [part for part in oracle.parts_of(form) if part[0] == "unknown" and part not in held]
+        if kind == "send":
+            if unknowns or form not in oracle.made_of(held, [form]):
+                return index
+            continue
+        if not set(unknowns) <= oracle.opened(held + [form]):
+            return index
+        held = held + unknowns
+        if not seen_through(form, oracle.made_of(held, [form])):
+            return index
+    return None
+
+
+def seen_through(form, can):
+    if form in can:
+        return True
+    if form[0] == "pair":
+        return seen_through(form[1], can) and seen_through(form[2], can)
+    if form[0] == "seal":
+        return form[2] in can and seen_through(form[1], can)
+    if form[0] == "lock":
+        return oracle.partner(form[2]) in can and seen_through(form[1], can)
+    return False
 
 
 if __name__ == "__main__":

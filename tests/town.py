@@ -51,7 +51,7 @@ def seen(world):
     sittings = []
     for k in range(4):
         try:
-            sittings.append((world.wants(k), world.filling(k)))
+            sittings.append((world.wants(k), dict(world.filling(k))))
         except NoSitting:
             break
-    return (world.heap().letters(), world.claims(), world.gives(), sittings)
+    return (world.heap().letters(), list(world.claims()), list(world.gives()), sittings)
