@@ -3,7 +3,7 @@
 from openroads.atoms import ATOMS
 from openroads.letters import Letter
 from openroads.merging import Merger
-from openroads.tables import table
+from openroads.tables import Stock, formed
 
 
 def lettered(forms):
@@ -38,10 +38,13 @@ def match(pattern, letter):
 
 def narrowest(pairs):
     """The least filling with which both letters of every pair become equal, or None."""
-    lines, numbers = table([letter.form() for pair in pairs for letter in pair])
-    merger = Merger(lines)
-    for at in range(0, len(numbers), 2):
-        if not merger.merge(numbers[at], numbers[at + 1]):
+    stock = Stock()
+    merger = Merger(stock)
+    for one, other in pairs:
+        if not merger.merge(stock.put(one.form()), stock.put(other.form())):
             return None
-    forms = merger.changes()
-    return None if forms is None else lettered(forms)
+    changes = merger.changes()
+    if changes is None:
+        return None
+    forms = formed(stock.lines)
+    return lettered({forms[number][1]: forms[changes[number]] for number in changes})

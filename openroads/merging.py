@@ -1,4 +1,4 @@
-"""Forms that must become equal, told by numbers.
+"""Forms that must become equal, told by the numbers of a stock.
 
 What is merged is merged once. So the time does not grow with the forms that come out, which can be far larger than
 those that went in.
@@ -8,22 +8,23 @@ from openroads.atoms import ATOMS
 
 
 class Merger:
-    """The forms of a table in classes, each class of those that must become equal.
+    """The forms of a stock in classes, each class of those that must become equal.
 
     One member is the root of its class: one that is no unknown if there is one, else the first unknown.
     """
 
-    def __init__(self, lines):
-        self.lines = lines
-        # The way from each number to the root of its class, which is above itself.
-        self.above = [number for number in range(len(lines))]
+    def __init__(self, stock):
+        self.stock = stock
+        # The way from each number that is no root towards the root of its class.
+        self.above = {}
 
     def root(self, number):
         """The root of a number's class."""
         at = number
-        while self.above[at] != at:
+        while at in self.above:
             # Shortens the way for those who ask later.
-            self.above[at] = self.above[self.above[at]]
+            up = self.above[at]
+            self.above[at] = self.above.get(up, up)
             at = self.above[at]
         return at
 
@@ -43,7 +44,7 @@ class Merger:
 
     def joined(self, one, other):
         """Joins the classes of two roots; returns the pairs that must be equal then, or None if they cannot be."""
-        line, against = self.lines[one], self.lines[other]
+        line, against = self.stock.lines[one], self.stock.lines[other]
         if line[0] == "unknown" and (against[0] != "unknown" or against < line):
             self.above[one] = other
             return []
@@ -56,47 +57,38 @@ class Merger:
         return list(zip(line[1:], against[1:]))
 
     def inner(self, number):
-        """The roots of the inner forms of a number."""
-        line = self.lines[number]
+        """The roots of the inner forms of a number, as far as they have unknowns; others stay as they are."""
+        line = self.stock.lines[number]
         if line[0] in ATOMS:
             return []
-        return [self.root(place) for place in line[1:]]
+        return [self.root(place) for place in line[1:] if self.stock.masks[place] != 0]
 
-    def forms(self):
-        """The forms that the classes become, by their roots; None if one would be a part of itself."""
-        forms = {}
+    def changes(self):
+        """The numbers that the unknowns become that must change, by theirs; None if nothing makes all equal."""
+        unknowns = [number for number in self.above if self.stock.lines[number][0] == "unknown"]
+        found = {}
         begun = {}
-        left = [self.root(number) for number in range(len(self.lines))]
+        left = [self.root(number) for number in unknowns]
         while left:
             number = left[-1]
-            waiting = [root for root in self.inner(number) if root not in forms]
-            if number in forms:
+            waiting = [root for root in self.inner(number) if root not in found]
+            if number in found:
                 left.pop()
             elif len(waiting) == 0:
-                forms[number] = self.formed(number, forms)
+                found[number] = self.made_of_roots(number, found)
             elif number in begun:
                 # It waits for itself.
                 return None
             else:
                 begun[number] = True
                 left.extend(waiting)
-        return forms
+        return {number: found[self.root(number)] for number in unknowns}
 
-    def formed(self, number, forms):
-        """The form of a number, made of those of the roots in it."""
-        line = self.lines[number]
+    def made_of_roots(self, number, found):
+        """The number of what a root becomes, made of what the roots in it become."""
+        line = self.stock.lines[number]
         if line[0] in ATOMS:
-            return line
-        return (line[0], *[forms[root] for root in self.inner(number)])
-
-    def changes(self):
-        """The forms of the unknowns that must change, by the unknowns; None if nothing makes all equal."""
-        forms = self.forms()
-        if forms is None:
-            return None
-        changed = {}
-        for number, line in enumerate(self.lines):
-            root = self.root(number)
-            if line[0] == "unknown" and root != number:
-                changed[line[1]] = forms[root]
-        return changed
+            return number
+        # What has no unknown may have a root that has some, but becomes nothing else.
+        inner = [place if self.stock.masks[place] == 0 else found[self.root(place)] for place in line[1:]]
+        return self.stock.noted((line[0], *inner))

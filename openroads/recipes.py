@@ -2,7 +2,7 @@
 
 from openroads.atoms import is_word
 from openroads.forms import KEYS, partner
-from openroads.tables import numbered, table
+from openroads.tables import Stock
 
 # How many recipes stand in a recipe of each kind that has some.
 INNER = {
@@ -46,19 +46,12 @@ def in_order(thing):
     return found[::-1]
 
 
-class Bench:
-    """Where recipes are worked on some forms, told by numbers as in a table."""
+class Bench(Stock):
+    """Where recipes are worked on some forms."""
 
     def __init__(self, forms):
-        self.lines, self.places = table(forms)
-        self.numbers = numbered(self.lines)
-
-    def noted(self, line):
-        """The number of the form with a line."""
-        if line not in self.numbers:
-            self.numbers[line] = len(self.lines)
-            self.lines.append(line)
-        return self.numbers[line]
+        Stock.__init__(self)
+        self.places = [self.put(form) for form in forms]
 
     def taken(self, kind, first):
         """The number of what a recipe makes that has no recipe in it, or None if it does not work."""

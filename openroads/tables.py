@@ -5,7 +5,7 @@ numbers are always below the one of the form itself.
 """
 
 from openroads.atoms import ATOMS
-from openroads.forms import forms_in
+from openroads.forms import forms_in, rebuilt
 
 
 def table(forms):
@@ -45,3 +45,80 @@ def formed(lines):
         else:
             forms.append((line[0], *[forms[number] for number in line[1:]]))
     return forms
+
+
+class Stock:
+    """A table that grows.
+
+    Each unknown has a bit of its own, in the order of open_ends, which has their numbers; masks has the bits of the
+    unknowns in each form. So it is soon told whether a form is plain, or has an unknown out of some.
+    """
+
+    def __init__(self):
+        self.lines = []
+        self.numbers = {}
+        self.masks = []
+        self.open_ends = []
+
+    def noted(self, line):
+        """The number of the form with a line."""
+        if line not in self.numbers:
+            self.numbers[line] = len(self.lines)
+            self.lines.append(line)
+            self.masks.append(self.mask_of(line))
+        return self.numbers[line]
+
+    def mask_of(self, line):
+        """The bits of the unknowns in the form with a new line."""
+        if line[0] == "unknown":
+            self.open_ends.append(self.numbers[line])
+            return 1 << (len(self.open_ends) - 1)
+        mask = 0
+        if line[0] not in ATOMS:
+            for number in line[1:]:
+                mask = mask | self.masks[number]
+        return mask
+
+    def put(self, form):
+        """The number of a form."""
+        made = []
+        for part in forms_in(form)[::-1]:
+            made.append(self.noted(part if part[0] in ATOMS else rebuilt(part, made)))
+        return made.pop()
+
+    def within(self, number):
+        """The ascending list of the numbers of all forms in a form: each behind its inner ones."""
+        found = {}
+        left = [number]
+        while left:
+            at = left.pop()
+            if at not in found:
+                found[at] = True
+                if self.lines[at][0] not in ATOMS:
+                    left.extend(self.lines[at][1:])
+        return sorted(set(list(found)))
+
+    def replaced(self, numbers, changes):
+        """The numbers of some forms in which the unknowns with the numbers that a dict has become other forms."""
+        mask = 0
+        for number in changes:
+            mask = mask | self.masks[number]
+        found = dict(changes)
+        for number in numbers:
+            self.replace_in(number, mask, found)
+        return [found.get(number, number) for number in numbers]
+
+    def replace_in(self, number, mask, found):
+        """Finds what a form becomes, and all in it that has an unknown out of a mask."""
+        left = [number]
+        while left:
+            at = left[-1]
+            line = self.lines[at]
+            waiting = []
+            if at not in found and self.masks[at] & mask != 0:
+                waiting = [inner for inner in line[1:] if inner not in found and self.masks[inner] & mask != 0]
+                if len(waiting) == 0:
+                    found[at] = self.noted((line[0], *[found.get(inner, inner) for inner in line[1:]]))
+            if len(waiting) == 0:
+                left.pop()
+            left.extend(waiting)
