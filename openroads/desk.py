@@ -86,7 +86,7 @@ class Desk:
 
     def number_of(self, text):
         """The number of a sitting with some digits, or one that no sitting has; BadCommand if they are no number."""
-        if text == "" or not made_of(text, DIGITS) or text[0] == "0" and text != "0":
+        if text == "" or not made_of(text, DIGITS) or (text[0] == "0" and text != "0"):
             raise BadCommand()
         # The digits of a number that a sitting has are few; others can be too many to be counted with.
         numbers = {str(number): number for number in range(len(self.sittings))}

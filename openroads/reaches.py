@@ -52,18 +52,22 @@ class Reach:
             left = [stock.lines[number][1] for number in turned if turned[number]]
 
     def lay_out(self, numbers):
-        """Puts some forms among the opened ones, and what is in the pairs among them."""
+        """Puts some forms among the opened ones, and what lies open with them."""
         left = list(numbers)
         while left:
             number = left.pop()
-            line = self.stock.lines[number]
-            same = self.opened_of.setdefault(line[0], {})
+            kind = self.stock.lines[number][0]
+            same = self.opened_of.setdefault(kind, {})
             if number not in same:
                 same[number] = True
-                if line[0] == "pair":
-                    left.extend(line[1:])
-                elif line[0] == "seal" or line[0] == "lock":
+                left.extend(self.opened_with(number))
+                if kind == "seal" or kind == "lock":
                     self.shut.append(number)
+
+    def opened_with(self, number):
+        """What lies open if a form does."""
+        line = self.stock.lines[number]
+        return line[1:] if line[0] == "pair" else ()
 
     def makes(self, number):
         """Whether a form can be made."""
@@ -90,20 +94,58 @@ class Reach:
 
 
 class Hope(Reach):
-    """What can be made of a pile at best, if all unknowns that lie open can be made without it.
+    """What can be made of a pile at best, with guesses at what unknowns become that cannot be made themselves.
 
-    No filling makes anything else of it then.
+    No filling makes anything else of it, if all that such unknowns can become is among the guesses.
     """
+
+    def __init__(self, stock, pile, guesses):
+        self.guesses = {unknown: told for unknown, told in guesses}
+        self.guessed = {}
+        Reach.__init__(self, stock, pile, ())
+
+    def opened_with(self, number):
+        """What lies open at best if a form does."""
+        line = self.stock.lines[number]
+        if line[0] == "unknown":
+            return self.guesses.get(number, ())
+        return line[1:] if line[0] == "pair" else ()
 
     def is_there(self, number):
         """Whether a form can be had at best without being put together."""
         kind = self.stock.lines[number][0]
         if kind == "unknown":
             return True
-        for other in self.opened_of.get(kind, {}):
-            if may_meet(self.stock, number, other):
+        for part in self.opened_of.get(kind, {}):
+            if self.may_equal(number, part):
                 return True
         return False
+
+    def may_equal(self, number, part):
+        """Whether a form may become equal to one that may come to lie open, as far as can be seen."""
+        lines = self.stock.lines
+        looked = {}
+        left = [(number, part)]
+        while left:
+            pair = left.pop()
+            line, against = lines[pair[0]], lines[pair[1]]
+            if pair[0] == pair[1] or pair in looked or line[0] == "unknown":
+                continue
+            looked[pair] = True
+            if against[0] == "unknown":
+                if not self.may_become(pair[1], pair[0]):
+                    return False
+            elif line[0] != against[0] or self.stock.masks[pair[0]] | self.stock.masks[pair[1]] == 0:
+                return False
+            else:
+                left.extend(list(zip(line[1:], against[1:])))
+        return True
+
+    def may_become(self, unknown, number):
+        """Whether an unknown in the pile may become a form that is none."""
+        if self.makes(number):
+            return True
+        return any([may_meet(self.stock, number, told) for told in self.guesses.get(unknown, ())])
 
     def is_closed(self, mask):
         """Whether all unknowns that lie open at best are those with the bits of a mask."""
@@ -112,17 +154,51 @@ class Hope(Reach):
                 return False
         return True
 
+    def guesses_at(self, number):
+        """The guesses at the unknowns in a form that can be made, by the unknowns."""
+        if number not in self.guessed:
+            self.guessed[number] = self.found_guesses(number)
+        return self.guessed[number]
 
-def is_alike_part(reach, part, number):
+    def found_guesses(self, number):
+        """Finds these guesses, and tells them."""
+        found = {part: [] for part in self.stock.within(number) if self.stock.lines[part][0] == "unknown"}
+        looked = {}
+        # A form with None can be made; a form with another one is equal to it.
+        left = [(number, None)]
+        while left:
+            pair = left.pop()
+            if pair not in looked and self.stock.masks[pair[0]] != 0:
+                looked[pair] = True
+                if self.stock.lines[pair[0]][0] != "unknown":
+                    left.extend(self.guessed_on(pair[0], pair[1]))
+                elif pair[1] is not None and pair[1] != pair[0]:
+                    found[pair[0]].append(pair[1])
+        return {unknown: tuple(found[unknown]) for unknown in found}
+
+    def guessed_on(self, number, other):
+        """What else can be made or must be equal, if a form can be made (other is None) or is equal to another one."""
+        line = self.stock.lines[number]
+        if other is None:
+            found = [(inner, None) for inner in line[1:] if line[0] != "own"]
+            same = self.opened_of.get(line[0], {})
+            found.extend([(number, part) for part in same if self.may_equal(number, part)])
+            return found
+        if self.stock.lines[other][0] == "unknown":
+            return [(number, None), *[(number, told) for told in self.guesses.get(other, ())]]
+        return list(zip(line[1:], self.stock.lines[other][1:])) if self.stock.lines[other][0] == line[0] else []
+
+
+def is_of_use(reach, hope, part, number):
     """Whether a part of a pile may become equal to a form that cannot be made, and is of use for this."""
     # What is put together of what can be made is equal to what is put together in another way, too.
-    return may_meet(reach.stock, part, number) and not reach.is_composed(part)
+    return hope.may_equal(number, part) and not reach.is_composed(part)
 
 
-def parts_like(reach, number):
+def parts_like(reach, hope, number):
     """The opened forms that are no unknowns and may become equal to a form that cannot be made."""
     kind = reach.stock.lines[number][0]
-    return [part for part in reach.opened_of.get(kind, {}) if is_alike_part(reach, part, number)]
+    return [part for part in reach.opened_of.get(kind, {}) if is_of_use(reach, hope, part, number)]
 
 
 def is_behind(reach, hope, shut, number):
@@ -137,7 +213,7 @@ def is_behind(reach, hope, shut, number):
             continue
         looked[part] = True
         line = lines[part]
-        if line[0] == lines[number][0] and is_alike_part(reach, part, number):
+        if line[0] == lines[number][0] and is_of_use(reach, hope, part, number):
             return True
         if line[0] == "pair":
             left.extend(line[1:])

@@ -76,13 +76,14 @@ class Solver:
             self.reaches[(pile, others)] = Reach(self.stock, pile, others)
         return self.reaches[(pile, others)]
 
-    def hope(self, pile):
-        """What can be made of a pile at best."""
+    def hope(self, pile, guesses):
+        """What can be made of a pile at best with some guesses, a dict."""
+        told = tuple([(unknown, guesses[unknown]) for unknown in guesses if len(guesses[unknown]) > 0])
         if len(self.hopes) > KEPT:
             self.hopes = {}
-        if pile not in self.hopes:
-            self.hopes[pile] = Hope(self.stock, pile, ())
-        return self.hopes[pile]
+        if (pile, told) not in self.hopes:
+            self.hopes[(pile, told)] = Hope(self.stock, pile, told)
+        return self.hopes[(pile, told)]
 
     def settled(self, system):
         """A system that the same grants, without wishes for pairs and wishes that those ahead of them grant."""
@@ -102,15 +103,15 @@ class Solver:
                 told.append(number)
         return System(system.pile, tuple(kept), system.worth)
 
-    def options(self, system, place):
+    def options(self, system, place, hope):
         """The ways in which a wish can come true, all together."""
         many, number, barred = system.wished[place]
         kind = self.stock.lines[number][0]
         pile = system.pile[:many]
         reach = self.reach(pile, ahead(system, place))
         found = [] if kind in ATOMS or kind == "own" else [("made", number, barred)]
-        found.extend([("equal", part, barred) for part in parts_like(reach, number)])
-        for shut in ways_in(reach, self.hope(pile), number):
+        found.extend([("equal", part, barred) for part in parts_like(reach, hope, number)])
+        for shut in ways_in(reach, hope, number):
             if shut not in barred:
                 found.append(("opened", shut, barred))
                 # If this can be opened at all, the option ahead has it.
@@ -129,24 +130,37 @@ class Solver:
         key = (many, opener(self.stock, part), (*barred, part))
         return beside(system, place, [key, (many, number, barred)])
 
+    def hopes_of(self, system):
+        """What can be made at best for each wish; a wish that cannot come true is the last one."""
+        guesses = {}
+        found = []
+        for many, number, barred in system.wished:
+            found.append(self.hope(system.pile[:many], guesses))
+            if not found[-1].makes(number):
+                break
+            # The wish in which an unknown stands first tells all that it can become.
+            told = found[-1].guesses_at(number)
+            guesses = {**told, **guesses}
+        return found
+
     def narrowest_wish(self, system, focus):
         """The place of a wish with as few options as can be, and these options; no options if there is no hope.
 
         Of several options to choose from, those of a wish that has an unknown of a mask come first. The place is None
         if all are wishes for unknowns alone.
         """
+        hopes = self.hopes_of(system)
+        if len(hopes) > 0 and not hopes[-1].makes(system.wished[len(hopes) - 1][1]):
+            return len(hopes) - 1, []
         mask = 0
         best, least, fewest = None, 0, []
         for place, (many, number, barred) in enumerate(system.wished):
-            hope = self.hope(system.pile[:many])
-            if not hope.is_closed(mask):
+            if not hopes[place].is_closed(mask):
                 break
-            if not hope.makes(number):
-                return place, []
             if self.stock.lines[number][0] == "unknown":
                 mask = mask | self.stock.masks[number]
                 continue
-            options = self.options(system, place)
+            options = self.options(system, place, hopes[place])
             is_aside = len(options) > 1 and self.stock.masks[number] & focus == 0
             weight = len(options) + FAR if is_aside else len(options)
             if best is None or weight < least:

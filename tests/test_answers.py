@@ -116,6 +116,42 @@ class Crafted(Checked):
         wishes = growing((["own(M)", "own(K)"], "own(?x)"), (["seal(K, M)", "seal(M, ?x)", "seal(?x, N)"], "K"))
         self.assertEqual(self.check(wishes), [])
 
+    def test_a_key_behind_its_own_seal(self):
+        self.assertEqual(self.check([wish(["seal(K, K)"], "K")]), [])
+        self.assertEqual(self.check(growing((["own(K)", "own(M)"], "own(?x)"), (["seal(K, K)", "seal(K, ?x)"], "K"))), [])
+        self.check_only(growing((["own(K)", "own(a)"], "own(?x)"), (["seal(K, K)", "seal(K, ?x)"], "K")), x="a")
+        self.check_only(growing((["own(K)", "M", "own(M)"], "own(?x)"), (["seal(pair(K, ?x), ?x)", "seal(?x, K)"], "K")),
+                        x="M")
+        self.check_only(growing((["own(K)", "own(M)", "own(a)"], "own(?x)"), (["seal(K, K)", "seal(K, ?x)"], "K")), x="a")
+
+    def test_what_an_unknown_gives_away(self):
+        # The second letter is had only as what the unknown becomes.
+        for wished in ("mark(?x)", "seal(mark(?x), a)", "seal(a, mark(?x))", "lock(a, open(mark(?x)))", "mark(mark(?x))",
+                       "open(seal(mark(?x), b))", "pair(b, mark(?x))", "lock(mark(?x), own(b))"):
+            self.check_only(growing((["mark(N)", "own(b)"], wished), (["?x"], "N")), x="N")
+        self.check_only(growing((["own(pair(N, M))"], "own(pair(?x, ?y))"), (["?x"], "N")), x="N", y="M")
+        self.check_only(growing((["own(pair(N, M))"], "own(?x)"), (["?x"], "M")), x="pair(N, M)")
+        self.check_only(growing((["own(seal(N, M))"], "own(?x)"), (["?x", "M"], "N")), x="seal(N, M)")
+        self.check_only(growing((["lock(N, own(M))"], "lock(?x, own(M))"), (["seal(B, ?x)", "?x"], "B")), x="N")
+
+    def test_what_unknowns_in_unknowns_give_away(self):
+        self.check_only(growing((["mark(pair(N, M))"], "mark(?y)"), (["seal(?y, K)"], "seal(pair(?x, ?z), K)"),
+                                (["?x"], "N")), x="N", y="pair(N, M)", z="M")
+        self.check_only(growing((["mark(N)"], "?y"), (["seal(?y, K)"], "seal(mark(?x), K)"), (["?x"], "N")),
+                        x="N", y="mark(N)")
+        self.check_only(growing((["mark(N)"], "mark(?y)"), (["seal(?y, K)"], "seal(?x, K)"), (["?x"], "N")), x="N", y="N")
+        self.check_only(growing((["mark(seal(N, M))", "M"], "mark(?y)"), (["seal(mark(?y), K)"], "seal(mark(?x), K)"),
+                                (["?x"], "N")), x="seal(N, M)", y="seal(N, M)")
+        self.check_only(growing((["mark(mark(N))"], "mark(?y)"), (["seal(?y, K)"], "seal(mark(?x), K)"),
+                                (["?x"], "N")), x="N", y="mark(N)")
+        self.check_only(growing((["mark(N)"], "?y"), (["own(?y)"], "own(mark(?x))"), (["?x"], "N")), x="N", y="mark(N)")
+        found = self.check(growing((["own(K)"], "own(?x)"), (["?x"], "seal(?x, mark(?z))"), ([], "K")))
+        self.assertIn(filling_of(x="K", z="pair(a, K)"), [{**filling, "z": read("pair(a, K)")} for filling in found])
+        # What an unknown cannot become does not help.
+        self.assertEqual(self.check(growing((["mark(N)"], "?y"), (["mark(?y)", "seal(B, mark(M))"], "B"))), [])
+        self.check_only(growing((["mark(mark(M))", "mark(a)", "own(a)"], "own(?y)"),
+                                (["seal(B, mark(?y))"], "B")), y="a")
+
     def test_behind_several_seals(self):
         self.check_only(growing((["own(B)", "own(a)"], "own(?x)"),
                                 (["seal(seal(pair(own(K), M), mark(?x)), pair(?x, a))"], "M"), ([], "own(K)")), x="a")

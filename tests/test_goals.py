@@ -95,7 +95,7 @@ class Refused(unittest.TestCase):
                       ("holds", "K"), ("holds", None), ("holds", ("name", "K")), ("holds", [letter]), ("holds", read("?x")),
                       ("holds", read("pair(K, lock(a, open(?x)))")), ("held", letter), ("", letter), (None, letter),
                       (letter, letter), (("holds",), letter), (["holds"], letter), ("lone", letter, letter),
-                      ("lone", "done", letter), ("lone", letter, "begun"), ("lone", "Done", "begun"),
+                      ("held", "done", "begun"), ("", "done", "begun"), ("done", "done", "begun"), ("lone", "done", letter), ("lone", letter, "begun"), ("lone", "Done", "begun"),
                       ("lone", "done", "begun2"), ("lone", "", "begun"), ("lone", "done", ""), ("lone", "done", None),
                       ("lone", "ninechars", "begun"), ("lone", "done", "ninechars"), ("lone", ["done"], "begun"),
                       ("lone", "?x", "begun"), ("lone", "done", ("begun",)), ("Holds", letter), ("holds ", letter),

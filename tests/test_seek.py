@@ -260,6 +260,33 @@ class Lone(Checked):
         self.check(None, book([takes], "seal(A, K)", "seal(B, K)"), [("takes", {})] * 2, ("lone", "other", "begun"))
         self.check(3, book([takes], "seal(A, K)", "seal(B, K)"), [("takes", {})] * 2, LONE)
 
+    def test_words_that_stand_somewhere(self):
+        # A new word must be found that nobody has begun with.
+        words = ["a", "b", "c", "d", "e", "f", "g", "h", "i", "j", "k", "l"]
+        ahead = role("ahead", *[row("claim", word, "begun") for word in words])
+        takes = role("takes", row("await", "?x"), row("claim", "?x", "done"))
+        deeds = self.check(1, book([ahead, takes]), [("ahead", {}), ("takes", {})], LONE)
+        self.assertNotIn(deeds[0][1], [("word", word) for word in words])
+        # Here there is nothing but what was begun with.
+        takes = role("takes", row("await", "seal(?x, K)"), row("claim", "?x", "done"), knows=["K"])
+        known = ["seal(" + word + ", K)" for word in words]
+        self.check(None, book([ahead, takes], *known), [("ahead", {}), ("takes", {})], LONE)
+        self.check(2, book([ahead, takes], *known), [("ahead", {}), ("takes", {}), ("takes", {})], LONE)
+        self.check(1, book([ahead, takes], "seal(m, K)", *known), [("ahead", {}), ("takes", {})], LONE)
+
+    def test_many_new_words(self):
+        # No two of the unknowns may become the same word.
+        unknowns = [one + other for one in "abcdef" for other in "abcdefgh"]
+        letters = [Letter("?" + unknown) for unknown in unknowns]
+        while len(letters) > 1:
+            letters = [one + other for one, other in zip(letters[::2], letters[1::2])] + letters[len(letters) // 2 * 2:]
+        for done in ("aa", "ce", "dd", "fh"):
+            begun = [unknown for unknown in unknowns if unknown != done]
+            for at in range(0, len(begun), 10):
+                claims = [row("claim", "?" + unknown, "begun") for unknown in begun[at:at + 10]]
+                takes = Role("takes", [], [], [], [("await", letters[0]), row("claim", "?" + done, "done"), *claims])
+                self.check(1, book([takes]), [("takes", {})], LONE)
+
     def test_a_well_known_flaw(self):
         # Ann talks to Carl, whose own key the stranger has; so Bob believes that Ann talks to him.
         begins = role("begins", row("send", "lock(pair(N, ?me), open(?you))"), row("await", "lock(pair(N, ?x), open(?me))"),

@@ -42,11 +42,14 @@ def word_fillings(unknowns, letters):
     parts = {part for letter in letters for part in oracle.parts_of(letter.form()) if part[0] != "unknown"}
     choices = [Letter("new" + "abcdef"[at]) for at in range(len(unknowns))]
     choices += [Letter.of(part) for part in sorted(parts)]
+    told = set()
     for chosen in itertools.product(choices, repeat=len(unknowns)):
         filling = dict(zip(unknowns, chosen))
         for unknown in unknowns:
             filling = {name: letter.filled(filling) for name, letter in filling.items()}
-        if not any(letter.unknowns() for letter in filling.values()):
+        texts = tuple(filling[unknown].written() for unknown in unknowns)
+        if "?" not in "".join(texts) and texts not in told:
+            told.add(texts)
             yield filling
 
 
