@@ -46,25 +46,25 @@ def more_equal(stock, system, letter, dones, many):
 def lone_in(solver, course, claim, goal):
     """A system of a course in which a claimed letter is claimed as a goal says, or None."""
     stock = solver.stock
-    left = [course.system]
+    left = [(course.system, None, None)]
     looked = {}
     while left:
-        now = solver.settled(left.pop())
-        if (now.worth, now.wished) in looked:
+        now = solver.taken(left.pop())
+        if now is None or (now.worth, now.wished) in looked:
             continue
         looked[(now.worth, now.wished)] = True
         letter = became(stock, now, [claim])[0]
         dones = letters_of(stock, now, course.claimed, goal[1])
         begun = letters_of(stock, now, course.claimed, goal[2]).count(letter)
         if dones.count(letter) > begun:
-            after = solver.onwards(now, stock.masks[letter])
-            if after is None:
+            steps = solver.onwards(now, stock.masks[letter])
+            if steps is None:
                 # New words make no more letters equal.
                 return now
         else:
             # What is equal stays so.
-            after = more_equal(stock, now, letter, dones, begun)
-        left.extend(after[::-1])
+            steps = [(after, None, None) for after in more_equal(stock, now, letter, dones, begun)]
+        left.extend(steps[::-1])
     return None
 
 

@@ -78,7 +78,10 @@ class Solver:
 
     def hope(self, pile, guesses):
         """What can be made of a pile at best with some guesses, a dict."""
-        told = tuple([(unknown, guesses[unknown]) for unknown in guesses if len(guesses[unknown]) > 0])
+        bits = self.stock.mask_in(pile)
+        # Nothing is asked of unknowns that are not in the pile.
+        here = [unknown for unknown in guesses if self.stock.masks[unknown] & bits != 0]
+        told = tuple([(unknown, guesses[unknown]) for unknown in here if len(guesses[unknown]) > 0])
         if len(self.hopes) > KEPT:
             self.hopes = {}
         if (pile, told) not in self.hopes:
@@ -168,24 +171,28 @@ class Solver:
         return best, fewest
 
     def onwards(self, system, focus):
-        """Systems that all together are granted by what grants a settled one, or None if it has come to its end.
+        """The steps to systems that all together are granted by what grants a settled one; None if it is at its end.
 
-        They are chosen so that soon more is known of the unknowns of a mask.
+        A STEP is a system, the place of a wish, and one of its options. They are chosen so that soon more is known of
+        the unknowns of a mask.
         """
         place, options = self.narrowest_wish(system, focus)
-        if place is None:
-            return None
-        found = [self.taken_by(system, place, option) for option in options]
-        return [after for after in found if after is not None]
+        return None if place is None else [(system, place, option) for option in options]
+
+    def taken(self, step):
+        """The settled system behind a step, or None if nothing grants it; without a place the step changes nothing."""
+        system, place, option = step
+        after = system if place is None else self.taken_by(system, place, option)
+        return None if after is None else self.settled(after)
 
     def forced(self, system):
         """A system that the same grants, as far as it can be told without a choice; None if nothing grants it."""
         now = self.settled(system)
-        after = self.onwards(now, 0)
-        while after is not None and len(after) == 1:
-            now = self.settled(after[0])
-            after = self.onwards(now, 0)
-        return None if after == [] else now
+        steps = self.onwards(now, 0)
+        while now is not None and steps is not None and len(steps) == 1:
+            now = self.taken(steps[0])
+            steps = [] if now is None else self.onwards(now, 0)
+        return None if steps == [] else now
 
     def solutions(self, system, is_one_enough):
         """The systems with wishes for unknowns alone that all together are granted by what grants a system.
@@ -194,15 +201,15 @@ class Solver:
         """
         found = {}
         looked = {}
-        left = [system]
+        left = [(system, None, None)]
         while left:
-            now = self.settled(left.pop())
-            if (now.worth, now.wished) in looked:
+            now = self.taken(left.pop())
+            if now is None or (now.worth, now.wished) in looked:
                 continue
             looked[(now.worth, now.wished)] = True
-            after = self.onwards(now, 0)
-            if after is not None:
-                left.extend(after[::-1])
+            steps = self.onwards(now, 0)
+            if steps is not None:
+                left.extend(steps[::-1])
                 continue
             found[(now.worth, tuple([(many, number) for many, number, barred in now.wished]))] = now
             if is_one_enough:

@@ -59,6 +59,7 @@ class Stock:
         self.numbers = {}
         self.masks = []
         self.open_ends = []
+        self.inside = {}
 
     def noted(self, line):
         """The number of the form with a line."""
@@ -73,10 +74,13 @@ class Stock:
         if line[0] == "unknown":
             self.open_ends.append(self.numbers[line])
             return 1 << (len(self.open_ends) - 1)
+        return 0 if line[0] in ATOMS else self.mask_in(line[1:])
+
+    def mask_in(self, numbers):
+        """The bits of the unknowns in some forms."""
         mask = 0
-        if line[0] not in ATOMS:
-            for number in line[1:]:
-                mask = mask | self.masks[number]
+        for number in numbers:
+            mask = mask | self.masks[number]
         return mask
 
     def put(self, form):
@@ -88,21 +92,21 @@ class Stock:
 
     def within(self, number):
         """The ascending list of the numbers of all forms in a form: each behind its inner ones."""
-        found = {}
-        left = [number]
-        while left:
-            at = left.pop()
-            if at not in found:
-                found[at] = True
-                if self.lines[at][0] not in ATOMS:
-                    left.extend(self.lines[at][1:])
-        return sorted(set(list(found)))
+        if number not in self.inside:
+            found = {}
+            left = [number]
+            while left:
+                at = left.pop()
+                if at not in found:
+                    found[at] = True
+                    if self.lines[at][0] not in ATOMS:
+                        left.extend(self.lines[at][1:])
+            self.inside[number] = sorted(set(list(found)))
+        return list(self.inside[number])
 
     def replaced(self, numbers, changes):
         """The numbers of some forms in which the unknowns with the numbers that a dict has become other forms."""
-        mask = 0
-        for number in changes:
-            mask = mask | self.masks[number]
+        mask = self.mask_in(list(changes))
         found = dict(changes)
         for number in numbers:
             self.replace_in(number, mask, found)
