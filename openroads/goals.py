@@ -49,7 +49,7 @@ def lone_in(solver, course, claim, goal):
     left = [(course.system, None, None)]
     looked = {}
     while left:
-        now = solver.taken(left.pop())
+        now = solver.behind(left.pop())
         if now is None or (now.worth, now.wished) in looked:
             continue
         looked[(now.worth, now.wished)] = True

@@ -179,7 +179,7 @@ class Solver:
         place, options = self.narrowest_wish(system, focus)
         return None if place is None else [(system, place, option) for option in options]
 
-    def taken(self, step):
+    def behind(self, step):
         """The settled system behind a step, or None if nothing grants it; without a place the step changes nothing."""
         system, place, option = step
         after = system if place is None else self.taken_by(system, place, option)
@@ -190,7 +190,7 @@ class Solver:
         now = self.settled(system)
         steps = self.onwards(now, 0)
         while now is not None and steps is not None and len(steps) == 1:
-            now = self.taken(steps[0])
+            now = self.behind(steps[0])
             steps = [] if now is None else self.onwards(now, 0)
         return None if steps == [] else now
 
@@ -203,7 +203,7 @@ class Solver:
         looked = {}
         left = [(system, None, None)]
         while left:
-            now = self.taken(left.pop())
+            now = self.behind(left.pop())
             if now is None or (now.worth, now.wished) in looked:
                 continue
             looked[(now.worth, now.wished)] = True

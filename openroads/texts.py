@@ -40,7 +40,7 @@ def letter_of(text):
     return None if form is None else Letter(form)
 
 
-def told_by(line):
+def line_told(line):
     """The head of a line and the list of what it tells behind it, or None if the line has none of the forms."""
     head, gap, rest = line.partition(" ")
     if head == "role":
@@ -73,7 +73,7 @@ def told_lines(text):
     found = []
     place = 0
     for index, line in enumerate(lines):
-        told = told_by(line)
+        told = line_told(line)
         if told is None or not can_stand(told[0], place):
             raise BadText(index + 1)
         place = PLACES[told[0]]
